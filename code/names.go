@@ -1,49 +1,30 @@
 package code
 
-// The operations. They begin at 1, so that the zero instruction is none.
-const (
-	opSet = iota + 1
-	opMove
-	opAdd
-	opSub
-	opMul
-	opDiv
-	opLess
-	opSame
-	opJump
-	opZero
-	opSpawn
-	opSync
-	opFuture
-	opTouch
-	opEmit
-	opFail
-	opRet
-)
+import "haymow/ops"
 
 var names = [...]string{
-	opSet:    "set",
-	opMove:   "move",
-	opAdd:    "add",
-	opSub:    "sub",
-	opMul:    "mul",
-	opDiv:    "div",
-	opLess:   "less",
-	opSame:   "same",
-	opJump:   "jump",
-	opZero:   "zero",
-	opSpawn:  "spawn",
-	opSync:   "sync",
-	opFuture: "future",
-	opTouch:  "touch",
-	opEmit:   "emit",
-	opFail:   "fail",
-	opRet:    "ret",
+	ops.Set:    "set",
+	ops.Move:   "move",
+	ops.Add:    "add",
+	ops.Sub:    "sub",
+	ops.Mul:    "mul",
+	ops.Div:    "div",
+	ops.Less:   "less",
+	ops.Same:   "same",
+	ops.Jump:   "jump",
+	ops.Zero:   "zero",
+	ops.Spawn:  "spawn",
+	ops.Sync:   "sync",
+	ops.Future: "future",
+	ops.Touch:  "touch",
+	ops.Emit:   "emit",
+	ops.Fail:   "fail",
+	ops.Ret:    "ret",
 }
 
 // Name tells an operation's name.
 func Name(op int) string {
-	if op < opSet || op > opRet {
+	if !ops.Known(op) {
 		return ""
 	}
 	return names[op]
@@ -51,7 +32,7 @@ func Name(op int) string {
 
 // Named tells a name's operation.
 func Named(name string) int {
-	for op := opSet; op <= opRet; op++ {
+	for op := ops.Set; op <= ops.Ret; op++ {
 		if names[op] == name {
 			return op
 		}
