@@ -6,6 +6,7 @@ import (
 
 	"haymow/api"
 	"haymow/code"
+	"haymow/figures"
 	"haymow/ops"
 )
 
@@ -82,30 +83,20 @@ func (r *reader) field(kind ops.Kind, word string) int {
 }
 
 func signed(word string) int {
-	figures, minus := strings.CutPrefix(word, "-")
+	size, minus := strings.CutPrefix(word, "-")
 	if !minus {
 		return natural(word, math.MaxInt32)
 	}
-	n := natural(figures, -math.MinInt32)
+	n := natural(size, -math.MinInt32)
 	if n == 0 {
 		panic(api.ErrForm)
 	}
 	return -n
 }
 
-// natural reads figures alone, so that no other way to write a number is let in.
-func natural(figures string, most int) int {
-	if figures == "" || len(figures) > maxFigures || len(figures) > 1 && figures[0] == '0' {
-		panic(api.ErrForm)
-	}
-	n := 0
-	for _, c := range []byte(figures) {
-		if c < '0' || c > '9' {
-			panic(api.ErrForm)
-		}
-		n = n*10 + int(c-'0')
-	}
-	if n > most {
+func natural(word string, most int) int {
+	n, ok := figures.Natural(word, maxFigures)
+	if !ok || n > most {
 		panic(api.ErrForm)
 	}
 	return n
