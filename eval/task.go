@@ -20,6 +20,7 @@ type whole struct {
 	program []code.Func
 	limits  Limits
 	left    int // how many instructions may still be done
+	plain   map[int]func(*plain.State, code.Instr)
 	does    map[int]func(*task, code.Instr)
 	told    []int64
 	log     []Entry
@@ -50,18 +51,10 @@ type task struct {
 	value   int64
 }
 
+// operations are those that are not plain.
 func operations() map[int]func(*task, code.Instr) {
 	return map[int]func(*task, code.Instr){
-		ops.Set:    (*task).Set,
-		ops.Move:   (*task).Move,
-		ops.Add:    (*task).Add,
-		ops.Sub:    (*task).Sub,
-		ops.Mul:    (*task).Mul,
 		ops.Div:    (*task).div,
-		ops.Less:   (*task).Less,
-		ops.Same:   (*task).Same,
-		ops.Jump:   (*task).Jump,
-		ops.Zero:   (*task).Zero,
 		ops.Spawn:  (*task).spawn,
 		ops.Sync:   (*task).sync,
 		ops.Future: (*task).future,
@@ -95,7 +88,11 @@ func (t *task) step() {
 	w.log[t.place].Steps++
 	in := t.code[t.At]
 	t.At++
-	w.does[in.Op](t, in)
+	if do, ok := w.plain[in.Op]; ok {
+		do(&t.State, in)
+	} else {
+		w.does[in.Op](t, in)
+	}
 }
 
 // begin evaluates the task that a spawn or a future begins.

@@ -5,13 +5,29 @@ package plain
 import (
 	"haymow/api"
 	"haymow/code"
+	"haymow/ops"
 )
 
 // State is at which instruction a task goes on, and its registers. A task
-// embeds it, and has the operations as its own.
+// embeds it.
 type State struct {
 	At   int
 	Regs [api.Regs]int64
+}
+
+// Operations are those that always can be done, by their numbers.
+func Operations() map[int]func(*State, code.Instr) {
+	return map[int]func(*State, code.Instr){
+		ops.Set:  (*State).Set,
+		ops.Move: (*State).Move,
+		ops.Add:  (*State).Add,
+		ops.Sub:  (*State).Sub,
+		ops.Mul:  (*State).Mul,
+		ops.Less: (*State).Less,
+		ops.Same: (*State).Same,
+		ops.Jump: (*State).Jump,
+		ops.Zero: (*State).Zero,
+	}
 }
 
 // Set is the operation of that name; so are those below.

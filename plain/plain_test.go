@@ -33,6 +33,29 @@ func TestNumbers(t *testing.T) { // R6
 	}
 }
 
+func TestOperations(t *testing.T) { // each by its number
+	in := code.Instr{A: 3, B: 1, C: 2, K: 6}
+	rows := map[string]plain.State{}
+	for name, changed := range map[string][2]int64{ // the place, and the register 3
+		"set": {5, 6}, "move": {5, -7}, "add": {5, -5}, "sub": {5, -9}, "mul": {5, -14}, "less": {5, 1}, "same": {5, 0}, "jump": {6, 0}, "zero": {6, 0},
+	} {
+		rows[name] = plain.State{At: int(changed[0]), Regs: [api.Regs]int64{1: -7, 2: 2, 3: changed[1]}}
+	}
+	does := plain.Operations()
+	for name, want := range rows {
+		s := plain.State{At: 5, Regs: [api.Regs]int64{1: -7, 2: 2}}
+		do, ok := does[code.Named(name)]
+		if !ok {
+			t.Errorf("%s is not there", name)
+		} else if do(&s, in); s != want {
+			t.Errorf("%s: %v; want %v", name, s, want)
+		}
+	}
+	if len(does) != len(rows) {
+		t.Errorf("%d operations", len(does))
+	}
+}
+
 func TestSet(t *testing.T) {
 	for _, k := range []int{0, 1, -1, math.MaxInt32, math.MinInt32} {
 		s := plain.State{At: 2}
